@@ -1,7 +1,9 @@
-"""What several tests need: tables, and the document's words on writing and reading, told without the program."""
+"""What several tests need: tables, the document's words on writing and reading, told without the program, and refusals."""
 
 import itertools
 import random
+
+from skewread import errors
 
 SIGNS = [0, 1, 9, 10, 65, 255, 256, 7000, 10 ** 9 - 1, 10 ** 9]
 
@@ -74,3 +76,52 @@ def spilt_so(table, row):
         told.append((place, found[0][0] if found else None))
         place += len(found[0][1]) if found else 1
     return told
+
+
+def spill_so(table, row):
+    """The entries alone of point 12."""
+    return [entry for place, entry in spilt_so(table, row)]
+
+
+def common_beginning(lists):
+    """The longest list with which all these lists begin."""
+    shared = []
+    for parts in zip(*lists):
+        if any(part != parts[0] for part in parts):
+            break
+        shared.append(parts[0])
+    return shared
+
+
+def certain_so(table, row, alphabet=(0, 7, 255)):
+    """Point 13's own words: the entries with which all rows that begin so begin, whatever comes behind or nothing."""
+    return common_beginning([spill_so(table, row + behind) for behind in rows_of(alphabet, 3)])
+
+
+def cuts_of(row):
+    """All lists of rows, none of which is of none, that make this row."""
+    if len(row) == 0:
+        return [[]]
+    return [[row[:size]] + rest for size in range(1, len(row) + 1) for rest in cuts_of(row[size:])]
+
+
+def some_loose_tables(seed, many, alphabet=(0, 1), most=6, longest=4):
+    """So many tables by chance in which no sign stands twice, and words as they come."""
+    chance = random.Random(seed)
+    tables = []
+    for turn in range(many):
+        words = [tuple(chance.choice(alphabet) for byte in range(chance.randrange(1, longest + 1)))
+                 for pair in range(chance.randrange(most + 1))]
+        tables.append(list(zip(chance.sample(SIGNS + list(range(300, 320)), len(words)), words)))
+    return tables
+
+
+def check_refused(case, ask, refusal, *fields):
+    """Asks twice, and sees that it is refused by this name, by SkewError and by ValueError, and by no other one."""
+    others = [thing for thing in vars(errors).values() if isinstance(thing, type) and thing is not errors.SkewError]
+    for turn in range(2):
+        with case.assertRaises(ValueError) as caught:
+            ask()
+        case.assertIsInstance(caught.exception, errors.SkewError)
+        case.assertEqual([thing for thing in others if isinstance(caught.exception, thing)], [refusal])
+        case.assertEqual(tuple(vars(caught.exception).values()), fields)

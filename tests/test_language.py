@@ -18,6 +18,7 @@ items join keys ljust lower lstrip partition pop remove replace reverse rfind rj
 splitlines startswith strip update upper values zfill bit_length""".split()
 VALUE_NAMES = "count index title find get join lower upper split strip copy add".split()
 WALKED = ["zip", "enumerate", "reversed", "range"]
+WALKERS = "list tuple dict sorted sum any all enumerate zip min max".split()
 KEYWORDS = {"sorted": ["key", "reverse"], "min": ["key", "default"], "max": ["key", "default"], "sum": ["start"],
             "enumerate": ["start"], "zip": ["strict"]}
 UNUSED = """register mro elements open input version_info with_traceback add_note attrgetter breakpoint builtins compile
@@ -166,7 +167,9 @@ def call_faults(node, above, own_methods):
     if any(word.arg not in KEYWORDS.get(name, []) for word in node.keywords):
         yield "L22 a keyword"
     walks = name in WALKED or isinstance(node.func, ast.Attribute) and node.func.attr in ("items", "keys", "values")
-    if walks and not isinstance(above, (ast.For, ast.comprehension, ast.Call)):
+    joined = isinstance(above, ast.Call) and isinstance(above.func, ast.Attribute) and above.func.attr == "join"
+    walked = joined or isinstance(above, ast.Call) and getattr(above.func, "id", "") in WALKERS
+    if walks and not walked and not isinstance(above, (ast.For, ast.comprehension)):
         yield "L23 kept, not walked"
 
 
@@ -275,6 +278,7 @@ class Language(unittest.TestCase):
                 ("L19", "def f(x):\n    try:\n        g()\n    except TypeError:\n        pass"),
                 ("L20", "def f(x, y):\n    return x is y"), ("L21", "def f(x: int):\n    return x"),
                 ("L22", "def f(x):\n    return list(x, key=1)"), ("L23", "def f(x):\n    y = zip(x, x)"),
+                ("L23", "def f(x):\n    return [y for y in reversed(range(x))]"), ("L23", "def f(x):\n    g(x.items())"),
                 ("L25", "def f(x):\n    x.sort()"), ("L26", "class A:\n    def title(self):\n        return 1"),
                 ("L27", "def f(n):\n    return 2 ** n"), ("L27", "def f(n):\n    return '%'")):
             found = faults(ast.parse(source), {"errors": ["SkewError"]}, [])
