@@ -4,6 +4,8 @@ import itertools
 import random
 
 from skewread import errors
+from skewread.codes import Code
+from skewread.families import Family
 
 SIGNS = [0, 1, 9, 10, 65, 255, 256, 7000, 10 ** 9 - 1, 10 ** 9]
 
@@ -114,6 +116,37 @@ def some_loose_tables(seed, many, alphabet=(0, 1), most=6, longest=4):
                  for pair in range(chance.randrange(most + 1))]
         tables.append(list(zip(chance.sample(SIGNS + list(range(300, 320)), len(words)), words)))
     return tables
+
+
+def family_of(members):
+    """The family of the (name, table, mark) handed in."""
+    family = Family()
+    for name, table, mark in members:
+        family.add(name, Code(table), mark)
+    return family
+
+
+def gone_so(one, other, text):
+    """Point 21's own words on a leg of these two tables: (row, text read), or None where it cannot be gone."""
+    row = written(one, text)
+    texts = [] if row is None else readings(other, row)
+    return (row, texts[0]) if texts else None
+
+
+def some_families(seed, many, most=4):
+    """So many lists of members by chance, of few signs, so that many ways can be gone."""
+    chance = random.Random(seed)
+    words = [(0,), (1,), (0, 0), (0, 1), (1, 0), (1, 1), (0, 0, 1), (1, 1, 1, 0)]
+    for turn in range(many):
+        members = []
+        for name in chance.sample(["b", "a", "zz", "ab"], chance.randrange(most + 1)):
+            table = []
+            for sign in chance.sample([0, 1, 2], 3):
+                word = chance.choice(words)
+                if not any(begins(word, other) or begins(other, word) for strange, other in table):
+                    table.append((sign, word))
+            members.append((name, table, chance.choice([(), (0,), (1, 1)])))
+        yield members
 
 
 def check_refused(case, ask, refusal, *fields):

@@ -4,7 +4,7 @@ import itertools
 import random
 import unittest
 
-from helping import begins, check_refused, full_table, furthest, readings, rows_of, some_tables, written
+from helping import begins, check_refused, family_of, full_table, furthest, readings, rows_of, some_tables, written
 from skewread.codes import Code
 from skewread.errors import NoMark, NoName, NoReading, NoSign, Taken, TwoMarks
 from skewread.families import Family
@@ -13,14 +13,6 @@ SMALL = [(1, (0,)), (2, (7, 0)), (3, (7, 7, 255))]
 WIDE = [(1, (7,)), (4, (0, 0)), (5, (0, 255))]
 MARKS = [(), (0,), (7,), (0, 7), (0, 7, 0), (0, 7, 7, 255), (7, 0), (0, 0), (255, 255, 255, 255)]
 NAMES = ["b", "a", "zzzzzzzz", "ab", "abcdefgh", "q", "c", "x"]
-
-
-def family_of(members):
-    """The family of the (name, table, mark) handed in."""
-    family = Family()
-    for name, table, mark in members:
-        family.add(name, Code(table), mark)
-    return family
 
 
 def by_mark_so(members, row):
