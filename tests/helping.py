@@ -149,6 +149,86 @@ def some_families(seed, many, most=4):
         yield members
 
 
+def texts_of(table, size):
+    """All texts whose rows have so many bytes."""
+    if size == 0:
+        return [[]]
+    return [[sign] + rest for sign, word in table if len(word) <= size for rest in texts_of(table, size - len(word))]
+
+
+def originals_by_entries(one, other, size):
+    """For each entries (a tuple) that texts of so many bytes come out as: the rising list of these texts."""
+    found = {}
+    for text in sorted(texts_of(one, size)):
+        found.setdefault(tuple(spill_so(other, written(one, text))), []).append(text)
+    return found
+
+
+def some_small_tables(seed, many, alphabet=(0, 1), most=4, longest=4):
+    """So many tables by chance, of few pairs, none of them at odds, and of few bytes, so that words often meet."""
+    chance = random.Random(seed)
+    tables = []
+    for turn in range(many):
+        table = []
+        for sign in chance.sample([0, 1, 2, 5, 7, 9, 10, 10 ** 9], chance.randrange(most + 1)):
+            word = tuple(chance.choice(alphabet) for byte in range(chance.randrange(1, longest + 1)))
+            if not any(begins(word, other) or begins(other, word) for strange, other in table):
+                table.append((sign, word))
+        tables.append(table)
+    return tables
+
+
+def head_so(table, part):
+    """(entry, size) of the entry with which these bytes begin for certain; None where bytes to come may change it."""
+    for sign, word in table:
+        if begins(word, part):
+            return (sign, len(word))
+    return None if any(begins(part, word) for sign, word in table) else (None, 1)
+
+
+def state_so(other, one_row, other_row, unlike):
+    """Point 29's own words, over the whole rows of the two texts: their state, or None where they are given up."""
+    longer, shorter = sorted([tuple(one_row), tuple(other_row)], key=len, reverse=True)
+    place = 0
+    while place < len(shorter):
+        heads = [head_so(other, row[place:len(shorter)]) for row in (longer, shorter)]
+        if None in heads:
+            break
+        if heads[0] != heads[1]:
+            return None
+        place += heads[0][1]
+    parts = (longer[place:len(shorter)], shorter[place:])
+    if len(longer) == len(shorter):
+        parts = (min(parts), max(parts))
+    return (longer[len(shorter):], parts[0], parts[1], unlike)
+
+
+def next_texts(one, texts):
+    """The pairs of texts that are laid side by side next."""
+    signs = [sign for sign, word in one]
+    if texts[0] == texts[1]:
+        return [(texts[0] + [first], texts[1] + [second]) for first in signs for second in signs]
+    sizes = [len(written(one, text)) for text in texts]
+    told = [(texts[0] + [sign], texts[1]) for sign in signs if sizes[0] <= sizes[1]]
+    return told + [(texts[0], texts[1] + [sign]) for sign in signs if sizes[1] <= sizes[0]]
+
+
+def states_so(one, other):
+    """(states, whether one of them is an end): those that are reached, each by the first two texts that come to it."""
+    found = {}
+    waiting = [([], [])]
+    while waiting:
+        further = []
+        for texts in waiting:
+            rows = [written(one, text) for text in texts]
+            state = state_so(other, rows[0], rows[1], texts[0] != texts[1])
+            if state is not None and state not in found:
+                found[state] = state[3] and state[0] == () and spill_so(other, state[1]) == spill_so(other, state[2])
+                further += next_texts(one, texts)
+        waiting = further
+    return (sorted(found), any(found.values()))
+
+
 def check_refused(case, ask, refusal, *fields):
     """Asks twice, and sees that it is refused by this name, by SkewError and by ValueError, and by no other one."""
     others = [thing for thing in vars(errors).values() if isinstance(thing, type) and thing is not errors.SkewError]
