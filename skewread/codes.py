@@ -51,7 +51,7 @@ class Code:
         self.words_by_sign = dict(self.pairs)
         self.signs_by_word = dict([(word, sign) for sign, word in self.pairs])
         self.begun = beginnings([word for sign, word in self.pairs])
-        self.longest_size = max([len(word) for sign, word in self.pairs], default=0)
+        self.word_sizes = tuple(sorted(dict([(len(word), True) for sign, word in self.pairs])))
 
     def table(self):
         """The pairs by rising words."""
@@ -71,7 +71,7 @@ class Code:
 
     def longest(self):
         """The size of the longest word, 0 where there is none."""
-        return self.longest_size
+        return max(self.word_sizes, default=0)
 
     def same(self, other):
         """Whether both codes have the same pairs."""

@@ -5,7 +5,7 @@ from skewread.errors import NoReading
 
 def word_at(code, row, place):
     """The word that stands whole in the row from the place on, or None."""
-    for size in range(1, code.longest() + 1):
+    for size in code.word_sizes:
         word = tuple(row[place:place + size])
         if code.sign(word) is not None:
             return word

@@ -122,6 +122,18 @@ class Merging(unittest.TestCase):
         other = [(5, (0, 8)), (6, (1, 1)), (7, (1, 2)), (8, (1, 3)), (9, (8, 1))]
         self.assertEqual(self.check_fewest(one, other), ([4, 5, 2], [4, 5, 3]))
 
+    def test_a_beginning_of_both_against_more_signs_behind(self):
+        for one, other in (
+                ([(2, (0, 1, 0, 0)), (0, (1,)), (10, (0, 0, 1, 1))],
+                 [(9, (1, 1, 0)), (5, (1, 1, 1)), (10, (0, 0, 0, 0)), (2, (0, 0, 1))]),
+                ([(7, (0, 1)), (1, (0, 0, 1)), (9, (1, 1, 1)), (10, (1, 1, 0))],
+                 [(2, (1, 0)), (1, (0, 1, 0, 0)), (0, (1, 1, 1, 1)), (10, (0, 0))]),
+                ([(5, (0, 0, 0, 0)), (10, (1, 0, 1)), (0, (0, 0, 1, 1)), (2, (0, 1, 1)), (1, (1, 1, 1))],
+                 [(5, (0, 1, 0)), (10, (1, 0, 1)), (9, (0, 1, 1)), (1, (1, 0, 0)), (0, (1, 1, 0))])):
+            told = self.check_fewest(one, other)
+            self.assertEqual([len(text) for text in told], [3, 3])
+            self.assertEqual(told[0][:2], told[1][:2])
+
     def test_none(self):
         for one in ([], [(1, (0,))], [(7, (0, 1, 0, 1))]):
             for other in ([], BITS, [(3, (0, 0)), (4, (1, 0, 1))], full_table()):
